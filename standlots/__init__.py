@@ -1,0 +1,1 @@
+"""Standlots: lots of things that can stand together, nobody knows which."""
