@@ -26,7 +26,7 @@ class Family:
 
     def __len__(self):
         """The count of all things."""
-        return len(range(self._table[self.things]))
+        return len(list(range(self._table[self.things])))
 
     def __eq__(self, other):
         return isinstance(other, Family) and self.things == other.things and self.counts == other.counts

@@ -144,6 +144,14 @@ class CountsTest(Refusals):
                     self.assertIs(family.stands(lot), lot in lots)
                 self.assertEqual(len(family), family[things])
 
+    def test_len_on_one_to_five_things(self):
+        for things in THINGS:
+            families = all_families(things)
+            self.assertEqual([len(family) for family in families],
+                             [max(map(len, standing(family))) for family in families])
+            self.assertEqual({len(family) for family in families}, set(range(len(things) + 1)))
+            self.assertEqual(len(Family(things, [0] * 2 ** len(things))), 0)
+
     def test_ordinary_values(self):
         self.assertEqual([PAIR[()], PAIR[("a",)], PAIR[("b",)], PAIR[AB]], [0, 1, 1, 1])
         self.assertEqual([PAIR.stands(lot) for lot in parts_of(AB)], [True, True, False, True])

@@ -113,6 +113,16 @@ class FormTest(unittest.TestCase):
             called = [node.func.attr for node in nodes_of(name, ast.Call) if isinstance(node.func, ast.Attribute)]
             self.assertEqual([word for word in called if word not in METHODS + own], [], name)
 
+    def test_what_len_gives_back(self):
+        for name in MODULES:
+            for function in nodes_of(name, ast.FunctionDef):
+                if function.name != "__len__":
+                    continue
+                for node in ast.walk(function):
+                    if isinstance(node, ast.Return):
+                        self.assertTrue(ast.unparse(node.value).startswith("len("), name)
+                        self.assertFalse(ast.unparse(node.value).startswith("len(range("), name)
+
     def test_no_decorators_and_no_code_at_module_level(self):
         kinds = (ast.FunctionDef, ast.ClassDef, ast.ImportFrom, ast.Assign)
         for name in MODULES:
