@@ -40,7 +40,7 @@ class Family:
         ones = _standing(self)
         others = _standing(other)
         lots = all_lots(self.things)
-        return _family_standing(self.things, {lot: True for lot in lots if _is_made_of(ones, others, lot)})
+        return family_standing(self.things, {lot: True for lot in lots if _is_made_of(ones, others, lot)})
 
     def __add__(self, other):
         """The family on the things of both, in which a lot can stand if its parts can."""
@@ -105,7 +105,7 @@ def family_of(things, lots):
     standing = _need_lots(things, lots)
     _need_parts(things, standing)
     _need_exchange(things, standing)
-    return _family_standing(things, standing)
+    return family_standing(things, standing)
 
 
 def all_families(things):
@@ -164,7 +164,7 @@ def _is_made_of(ones, others, lot):
     return any([part in ones and without(lot, part) in others for part in all_lots(lot)])
 
 
-def _family_standing(things, standing):
+def family_standing(things, standing):
     """The family of the standing lots, which are known to be those of one."""
     return Family(things, [_most_standing(standing, lot) for lot in all_lots(things)])
 

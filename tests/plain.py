@@ -1,5 +1,6 @@
 """What the tests share: values of every kind, and families worked out by the document's own words."""
 
+import unittest
 from itertools import combinations
 
 from standlots.families import Family, all_families
@@ -51,6 +52,33 @@ NOTHING_KNOWN = [
     ("a", nested(47)), [["a"]], Family(("a",), (0, 1)), (Family(("a",), (0, 1)),),
     ("a", "b", "c", "d", "e", "f"), ("a", "b", "c", "d", "e", "f", "g"),
 ]
+
+
+class Refusals(unittest.TestCase):
+    def refused(self, error, field, value, function, *rest, **more):
+        """The call raises just this error, whose field has this value."""
+        with self.assertRaises(error) as caught:
+            function(*rest, **more)
+        self.assertIs(type(caught.exception), error)
+        self.assertEqual(getattr(caught.exception, field), value)
+        self.assertIs(type(getattr(caught.exception, field)), type(value))
+
+
+def otherwise(value):
+    """The value with one part, at any depth, exchanged for one that is not it; values of many kinds."""
+    kinds = [None, True, False, 0, 1, 3, -1, 10 ** 999, "", "a", "z", "not", b"a", (), ("a",), ("z",), ("b", "a"), [], ["a"],
+             {}, {"a": 1}, len, Strange(), Echo(), ((),), nested(49)]
+    found = [kind for kind in kinds if not (type(kind) is type(value) and kind == value)]
+    if isinstance(value, tuple):
+        found.append(list(value))
+        found.append(value + ((),))
+        found.append(value[::-1])
+        for place, part in enumerate(value):
+            found.append(value[:place] + value[place + 1:])
+            found.append(value[:place + 1] + value[place:])
+            for other in otherwise(part):
+                found.append(value[:place] + (other,) + value[place + 1:])
+    return found
 
 
 def parts_of(things):

@@ -3,8 +3,8 @@
 import unittest
 from itertools import product
 
-from plain import (A, AB, ABC, ABCDE, NOTHING_KNOWN, THINGS, WORDS, Strange, broken_rule, counts_of, family_sets, minus,
-                   nested, parts_of, some_families, standing, union)
+from plain import (A, AB, ABC, ABCDE, NOTHING_KNOWN, THINGS, WORDS, Refusals, Strange, broken_rule, counts_of, family_sets,
+                   minus, nested, parts_of, some_families, standing, union)
 
 from standlots.errors import BadCounts, BadLot, BadNumber, BadThings
 from standlots.families import Family, all_families, family_of
@@ -14,15 +14,6 @@ PAIR = Family(AB, (0, 1, 1, 1))
 ROUND = Family(("a", "b", "c", "d"), (0, 1, 2, 2, 2, 2, 2, 2, 1, 1, 2, 2, 1, 1, 1, 0))
 NO_NUMBERS = [None, True, False, -1, -(10 ** 999), "", "1", b"1", (), (1,), [], [1], {}, {1: 1}, len, Strange(), PAIR]
 NO_INTEGERS = [True, False, None, "", "1", "a", b"1", (), (0,), [], [1], {}, Strange(), PAIR]
-
-
-class Refusals(unittest.TestCase):
-    def refused(self, error, field, value, function, *rest, **more):
-        with self.assertRaises(error) as caught:
-            function(*rest, **more)
-        self.assertIs(type(caught.exception), error)
-        self.assertEqual(getattr(caught.exception, field), value)
-        self.assertIs(type(getattr(caught.exception, field)), type(value))
 
 
 class MakingTest(Refusals):
