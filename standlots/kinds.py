@@ -12,7 +12,7 @@ def is_word(value):
     """Whether any value is a text of 1 to 8 letters from a to z."""
     if not isinstance(value, str) or not 1 <= len(value) <= _LONGEST_WORD:
         return False
-    return all(["a" <= letter <= "z" for letter in value])
+    return value.isascii() and value.isalpha() and value.islower()
 
 
 def is_ascending(words):

@@ -17,12 +17,27 @@ def need_things(thing):
 
 def is_lot(things, thing):
     """Whether any value is a lot of the things."""
+    return place_of(things, thing) is not None
+
+
+def place_of(things, thing):
+    """The place of a lot of the things in all_lots, or None for any other value."""
     if not isinstance(thing, tuple):
-        return False
-    # Only words are compared: values of other kinds have no order beside them.
-    if not all([isinstance(word, str) and word in things for word in thing]):
-        return False
-    return is_ascending(thing)
+        return None
+    many = 1 << len(things)
+    place = 0
+    least = 0
+    for word in thing:
+        # Only words are compared: a value of another kind may be equal to whatever it likes.
+        if not isinstance(word, str) or word not in things:
+            return None
+        at = things.index(word)
+        if at < least:
+            return None
+        # Ahead of it stand the lots that go on with an earlier thing.
+        place = place + 1 + (many >> least) - (many >> at)
+        least = at + 1
+    return place
 
 
 def all_lots(things):
@@ -55,23 +70,3 @@ def rules(things):
             for second in beside[number + 1:]:
                 pairs.append(("pair", lot, first, second))
     return tuple([("none",)] + steps + pairs)
-
-
-def rule_places(things):
-    """For each rule, in the order of rules, the places in all_lots of the lots that it compares.
-
-    Of a pair these are the lot, the lot with the one thing, with the other one, and with both.
-    """
-    bits = tuple([1 << number for number in range(len(things))])
-    # Lots as sums of bits are faster to join than tuples, and bits are ordered as the things are.
-    masks = [sum(lot) for lot in all_lots(bits)]
-    places = {mask: place for place, mask in enumerate(masks)}
-    steps = []
-    pairs = []
-    for mask in masks:
-        beside = [bit for bit in bits if not mask & bit]
-        for number, first in enumerate(beside):
-            steps.append((places[mask], places[mask + first]))
-            for second in beside[number + 1:]:
-                pairs.append((places[mask], places[mask + first], places[mask + second], places[mask + first + second]))
-    return [(0,)] + steps + pairs

@@ -3,7 +3,7 @@
 from standlots.errors import BadMaker
 from standlots.families import family_standing
 from standlots.kinds import is_whole, is_word
-from standlots.lots import MOST_THINGS, all_lots, is_lot, joined, need_things
+from standlots.lots import MOST_THINGS, all_lots, is_lot, joined, need_things, without
 
 MOST_HANDS = 9
 PRIMES = (2, 3, 5, 7)
@@ -14,7 +14,7 @@ def of_frame(ties):
     points = _need_ties(ties)
     things = tuple(sorted(points))
     standing = [lot for lot in all_lots(things) if not _has_ring([points[thing] for thing in lot])]
-    return family_standing(things, {lot: True for lot in standing})
+    return family_standing(things, standing)
 
 
 def of_rows(rows, prime):
@@ -24,7 +24,7 @@ def of_rows(rows, prime):
     numbers = _need_rows(rows)
     things = tuple(sorted(numbers))
     standing = [lot for lot in all_lots(things) if _are_independent([numbers[thing] for thing in lot], prime)]
-    return family_standing(things, {lot: True for lot in standing})
+    return family_standing(things, standing)
 
 
 def of_hands(things, hands):
@@ -37,9 +37,9 @@ def of_hands(things, hands):
         if not is_lot(things, hand):
             raise BadMaker(number)
         for lot in list(held):
-            for thing in hand:
+            for thing in without(hand, lot):
                 held[joined(lot, (thing,))] = True
-    return family_standing(things, held)
+    return family_standing(things, list(held))
 
 
 def _need_items(items):

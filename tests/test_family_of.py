@@ -1,6 +1,7 @@
 """family_of and all_families."""
 
 import unittest
+from time import perf_counter
 
 from plain import (A, AB, ABC, ABCDE, NOTHING_KNOWN, THINGS, WORDS, Strange, counts_of, family_sets, is_family, minus,
                    parts_of, some_families, standing, union)
@@ -160,6 +161,12 @@ class AllFamiliesTest(unittest.TestCase):
             lots = standing(family)
             self.assertTrue(is_family(lots))
             self.assertEqual(counts_of(ABCDE, lots), family.counts)
+
+    def test_ends_within_a_generous_time(self):
+        started = perf_counter()
+        for _ in range(10):
+            all_families(ABCDE)
+        self.assertTrue(perf_counter() - started < 2)
 
     def test_a_new_list_each_time(self):
         first = all_families(ABC)

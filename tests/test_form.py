@@ -18,7 +18,7 @@ BUILTINS = """len range enumerate zip min max sum abs sorted reversed int str bo
     OverflowError RuntimeError NotImplementedError AttributeError NotImplemented""".split()
 METHODS = """append clear copy count endswith extend find get index insert isalnum isalpha isdigit islower isspace isupper
     items join keys ljust lower lstrip partition pop remove replace reverse rfind rjust rpartition rsplit rstrip
-    setdefault split splitlines startswith strip update upper values zfill bit_length""".split()
+    setdefault split splitlines startswith strip update upper values zfill bit_length isascii""".split()
 SPECIAL = """__init__ __eq__ __len__ __iter__ __getitem__ __or__ __add__ __enter__ __exit__""".split()
 UNUSED = """register mro elements open input law version_info with_traceback add_note eval exec type vars dir id
     globals locals super print map filter getattr setattr hasattr frozenset chr pow iter next""".split()

@@ -6,7 +6,7 @@ from math import comb
 from plain import A, AB, ABC, ABCDE, NOTHING_KNOWN, THINGS, WORDS, Echo, minus, nested, parts_of, union
 
 from standlots.errors import BadThings
-from standlots.lots import (MOST_THINGS, all_lots, is_lot, joined, need_things, rule_places, rules, without)
+from standlots.lots import MOST_THINGS, all_lots, is_lot, joined, need_things, place_of, rules, without
 
 
 class ThingsTest(unittest.TestCase):
@@ -65,6 +65,14 @@ class LotsTest(unittest.TestCase):
         self.assertIs(is_lot(AB, (Echo(),)), False)
         self.assertIs(is_lot(AB, ("a", Echo())), False)
         self.assertIs(is_lot(AB, Echo()), False)
+
+    def test_the_place_of_a_lot(self):
+        for things in THINGS + (WORDS, ("ab", "b")):
+            for place, lot in enumerate(parts_of(things)):
+                self.assertEqual(place_of(things, lot), place)
+            for value in NOTHING_KNOWN + [Echo(), (Echo(),)]:
+                if not is_lot(things, value):
+                    self.assertIsNone(place_of(things, value))
 
     def test_the_order_of_all_lots(self):
         self.assertEqual(all_lots(A), ((), ("a",)))
@@ -129,14 +137,6 @@ class RulesTest(unittest.TestCase):
             for _, lot, *beside in steps + pairs:
                 self.assertTrue(is_lot(things, lot))
                 self.assertTrue(is_lot(minus(things, lot), tuple(beside)))
-
-    def test_places_are_those_of_the_lots_that_a_rule_names(self):
-        for things in THINGS + (WORDS,):
-            lots = all_lots(things)
-            for name, places in zip(rules(things), rule_places(things), strict=True):
-                lot, beside = (name + ((),))[1], name[2:]
-                self.assertEqual([lots[place] for place in places], [union(lot, part) for part in
-                                 ([()] + [(thing,) for thing in beside] + [beside] * (len(beside) == 2))])
 
 
 if __name__ == "__main__":
