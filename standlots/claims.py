@@ -7,6 +7,8 @@ from standlots.lots import is_lot, joined, need_things
 DEEPEST = 6
 MOST_CLAIMS = 60
 GREATEST_NUMBER = 9
+# A claim that holds of no family: what shows it is a quarrel.
+NEVER = ("some", ())
 
 
 def need_claim(things, thing):

@@ -57,10 +57,10 @@ def _with_first(smaller, many):
     takes, from a rule that is only just kept without it.
     """
     ways = _ways_to_add(many)
-    taking = [_bits(_are_lessened(way, many)) for way in ways]
+    taking = [as_bits(_are_lessened(way, many)) for way in ways]
     found = []
     for counts in smaller:
-        kept = _bits(_are_just_kept(counts, many))
+        kept = as_bits(_are_just_kept(counts, many))
         good = [way for way, less in zip(ways, taking) if not kept & less]
         found.extend([_put_together(counts, [count + more for count, more in zip(counts, way)]) for way in good])
     return found
@@ -95,6 +95,6 @@ def _are_lessened(way, many):
     return steps + [way[one] + way[other] < way[low] + way[both] for low, one, other, both in PAIRS[many]]
 
 
-def _bits(answers):
+def as_bits(answers):
     """The answers as the bits of an integer."""
     return sum([1 << place for place, answer in enumerate(answers) if answer])

@@ -54,11 +54,10 @@ def picked(family, weights):
 def best_lots(family, weights):
     """The ascending tuple of all best lots."""
     need_weights(family.things, weights)
-    worth = dict(zip(family.things, weights))
-    standing = [lot for lot, count in zip(all_lots(family.things), family.counts) if count == len(lot)]
-    sums = [sum([worth[thing] for thing in lot]) for lot in standing]
-    most = max(sums)
-    return tuple([lot for lot, total in zip(standing, sums) if total == most])
+    lots = zip(all_lots(family.things), family.counts, lot_sums(family.things, weights))
+    standing = [(lot, total) for lot, count, total in lots if count == len(lot)]
+    most = max([total for _, total in standing])
+    return tuple([lot for lot, total in standing if total == most])
 
 
 def need_weights(things, thing):
@@ -68,6 +67,12 @@ def need_weights(things, thing):
     if not all([is_whole(weight) for weight in thing]):
         raise BadNumber(thing)
     return thing
+
+
+def lot_sums(things, weights):
+    """The list of the sums of the weights of all lots, in their order."""
+    worth = dict(zip(things, weights))
+    return [sum([worth[thing] for thing in lot]) for lot in all_lots(things)]
 
 
 def _need_alike(one, other):

@@ -1,6 +1,10 @@
 """Claims by the words of promise 17, and some claims to ask about."""
 
+from functools import lru_cache
+
 from plain import parts_of, standing, union
+
+from standlots.families import Family
 
 
 def deep(claim):
@@ -37,12 +41,18 @@ def is_claim(things, value):
     return has_form(things, value) and deep(value) <= 6 and many(value) <= 60
 
 
+@lru_cache(maxsize=None)
+def table_of(things, counts):
+    """The counts of all lots, by the words of promise 11, from the lots that can stand."""
+    lots = standing(Family(things, counts))
+    return {lot: max(len(part) for part in parts_of(lot) if part in lots) for lot in parts_of(things)}
+
+
 def truth(family, claim):
     """Whether a claim holds of a family, by the words of promises 11 and 17."""
     if claim[0] == "atleast":
-        lots = standing(family)
-        counts = [max(len(part) for part in parts_of(lot) if part in lots) for lot in claim[1:3]]
-        return counts[0] >= counts[1] + claim[3]
+        table = table_of(family.things, family.counts)
+        return table[claim[1]] >= table[claim[2]] + claim[3]
     if claim[0] == "not":
         return not truth(family, claim[1])
     holding = [part for part in claim[1] if truth(family, part)]
@@ -72,6 +82,11 @@ def chain(claim, links):
     for at in range(links):
         claim = (("not", claim), ("all", (claim,)), ("some", (claim,)))[at % 3]
     return claim
+
+
+def opposite(claim):
+    """A claim that holds of just the families that the given one does not hold of; no deeper than 6."""
+    return claim[1] if claim[0] == "not" else ("not", claim)
 
 
 def doubled(claim, times):

@@ -2,11 +2,13 @@
 
 import unittest
 
+from standlots.best import surely_best
 from standlots.books import Book
 from standlots.claims import can_stand
 from standlots.families import Family, all_families
 from standlots.makers import of_frame
 from standlots.pairs import parting
+from standlots.verdicts import check, follows, verdict
 
 
 class ExamplesTest(unittest.TestCase):
@@ -18,6 +20,10 @@ class ExamplesTest(unittest.TestCase):
         kept = [family for family in all_families(things) if book.keeps(family)]
         # The one family in which no two of them stand together, so b and c do not, either.
         self.assertEqual(kept, [Family(things, (0, 1, 1, 1, 1, 1, 1, 1))])
+        self.assertIs(follows(book, ('not', can_stand(things, ('b', 'c')))), True)
+        self.assertEqual(check(book, can_stand(things, ('b',)), verdict(book, can_stand(things, ('b',)))), 'tree')
+        self.assertEqual(verdict(Book(things), can_stand(things, ('b',)))[0], 'family')
+        self.assertEqual(surely_best(book, (2, 1, 1)), (('a',),))
 
     def test_makers_and_families(self):
         self.assertEqual(of_frame([('a', 1, 2), ('b', 2, 3), ('c', 3, 1)]).bases(), (('a', 'b'), ('a', 'c'), ('b', 'c')))

@@ -1,0 +1,51 @@
+"""Which families keep a book, by the counts of all families."""
+
+from standlots.claims import NEVER
+from standlots.counts import all_counts, as_bits
+from standlots.errors import Quarrel
+from standlots.growing import grown
+from standlots.placed import placed_facts
+
+
+def bits_holding(found, claim):
+    """The set of those counts in a list that a claim, with places, holds of."""
+    word = claim[0]
+    if word == "atleast":
+        lot, other, number = claim[1:]
+        return as_bits([counts[lot] >= counts[other] + number for counts in found])
+    every = (1 << len(found)) - 1
+    if word == "not":
+        return every ^ bits_holding(found, claim[1])
+    parts = [bits_holding(found, part) for part in claim[1]]
+    return met(every, parts) if word == "all" else every ^ met(every, [every ^ part for part in parts])
+
+
+def met(every, sets):
+    """What is in each of the sets; with none of them, every one."""
+    for bits in sets:
+        every = every & bits
+    return every
+
+
+def kept_bits(found, book):
+    """The set of those counts in a list that keep a book."""
+    return met((1 << len(found)) - 1, [bits_holding(found, fact) for fact in placed_facts(book)])
+
+
+def in_set(found, bits):
+    """The list of those items that are in a set."""
+    return [item for place, item in enumerate(found) if bits >> place & 1]
+
+
+def kept_counts(book):
+    """The ascending list of the counts of the families left."""
+    found = all_counts(len(book.things))
+    return in_set(found, kept_bits(found, book))
+
+
+def need_kept(book):
+    """The same list, if the book is possible."""
+    found = kept_counts(book)
+    if found == []:
+        raise Quarrel(grown(book, NEVER))
+    return found
