@@ -4,7 +4,7 @@ from standlots.claims import need_claim
 from standlots.counts import all_counts
 from standlots.errors import BadNumber
 from standlots.families import all_families
-from standlots.keeping import bits_holding, in_set, kept_bits
+from standlots.keeping import bits_holding, fact_sets, in_set, met, set_of_all
 from standlots.kinds import is_whole
 from standlots.placed import placed, places_of
 
@@ -17,7 +17,8 @@ def set_of(things, claim):
 
 def left(book):
     """The set of the families that keep a book."""
-    return kept_bits(all_counts(len(book.things)), book)
+    found = all_counts(len(book.things))
+    return met(set_of_all(found), fact_sets(found, book))
 
 
 def families_in(things, number):
@@ -30,7 +31,5 @@ def families_in(things, number):
 
 def follows_by_bits(book, claim):
     """Whether the claim holds of every family that keeps the book, by sets alone."""
-    need_claim(book.things, claim)
-    found = all_counts(len(book.things))
-    kept = kept_bits(found, book)
-    return kept & bits_holding(found, placed(places_of(book.things), claim)) == kept
+    holding = set_of(book.things, claim)
+    return left(book) & ~holding == 0

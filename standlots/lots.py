@@ -8,11 +8,16 @@ MOST_THINGS = 5
 
 def need_things(thing):
     """The value itself, if it is things."""
-    if not isinstance(thing, tuple) or not 1 <= len(thing) <= MOST_THINGS:
-        raise BadThings(thing)
-    if not all([is_word(word) for word in thing]) or not is_ascending(thing):
+    if not is_things(thing):
         raise BadThings(thing)
     return thing
+
+
+def is_things(value):
+    """Whether any value is things."""
+    if not isinstance(value, tuple) or not 1 <= len(value) <= MOST_THINGS:
+        return False
+    return all([is_word(word) for word in value]) and is_ascending(value)
 
 
 def is_lot(things, thing):

@@ -7,7 +7,7 @@ from standlots.lots import all_lots, is_lot, joined, without
 
 def common(one, other):
     """A common paper of two families."""
-    _need_alike(one, other)
+    need_alike(one, other)
     lots = all_lots(one.things)
     in_both = [lot for lot, here, there in zip(lots, one.counts, other.counts) if here == there == len(lot)]
     bounds = [(_bound(one, other, lot), lot) for lot in lots]
@@ -16,7 +16,7 @@ def common(one, other):
 
 def check_common(one, other, paper):
     """Whether any value is a common paper of two families."""
-    _need_alike(one, other)
+    need_alike(one, other)
     if not _is_pair(paper) or not is_lot(one.things, paper[0]) or not is_lot(one.things, paper[1]):
         return False
     lot, bound = paper
@@ -75,7 +75,8 @@ def lot_sums(things, weights):
     return [sum([worth[thing] for thing in lot]) for lot in all_lots(things)]
 
 
-def _need_alike(one, other):
+def need_alike(one, other):
+    """Refuse two families, or two books, on unlike things."""
     if one.things != other.things:
         raise BadThings(other.things)
 

@@ -72,6 +72,23 @@ def drawn_books(things, many_books, seed, least_hidden=0):
     return books
 
 
+def books_of_few(things, many_books, seed):
+    """Books that 1 to 16 families keep, often more than a few."""
+    rng = Random(seed)
+    families = all_families(things)
+    books = []
+    while len(books) < many_books:
+        hidden = rng.sample(families, rng.randrange(1, min(16, len(families)) + 1))
+        left = families
+        claims = []
+        while len(left) > 16 and len(claims) < 12:
+            claims.append(telling_claim(rng, things, hidden, left))
+            left = [family for family in left if truth(family, claims[-1])]
+        if len(left) <= 16:
+            books.append(Book(things, claims))
+    return books
+
+
 def drawn_tree(rng, things, cases):
     """A tree with about so many cases."""
     if cases <= 0:

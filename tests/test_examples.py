@@ -1,4 +1,4 @@
-"""The examples of the document, as far as its modules are there."""
+"""The examples of the document."""
 
 import unittest
 
@@ -8,6 +8,8 @@ from standlots.claims import can_stand
 from standlots.families import Family, all_families
 from standlots.makers import of_frame
 from standlots.pairs import parting
+from standlots.questions import fewest
+from standlots.texts import claim_text
 from standlots.verdicts import check, follows, verdict
 
 
@@ -24,6 +26,7 @@ class ExamplesTest(unittest.TestCase):
         self.assertEqual(check(book, can_stand(things, ('b',)), verdict(book, can_stand(things, ('b',)))), 'tree')
         self.assertEqual(verdict(Book(things), can_stand(things, ('b',)))[0], 'family')
         self.assertEqual(surely_best(book, (2, 1, 1)), (('a',),))
+        self.assertEqual(fewest(Book(things, singles), can_stand(things, things)), 1)
 
     def test_makers_and_families(self):
         self.assertEqual(of_frame([('a', 1, 2), ('b', 2, 3), ('c', 3, 1)]).bases(), (('a', 'b'), ('a', 'c'), ('b', 'c')))
@@ -31,6 +34,10 @@ class ExamplesTest(unittest.TestCase):
 
     def test_parting(self):
         self.assertEqual(parting(Family(('a', 'b'), (0, 1, 1, 1))), ((('a',), ('b',)), ('a', 'b')))
+
+    def test_texts(self):
+        things = ('a', 'b', 'c')
+        self.assertEqual(claim_text(things, can_stand(things, ('b', 'c'))), 'b.c - 0 >= 2')
 
 
 if __name__ == "__main__":

@@ -15,7 +15,7 @@ MODULES = sorted(name for name in os.listdir(FOLDER) if name.endswith(".py"))
 
 BUILTINS = """len range enumerate zip min max sum abs sorted reversed int str bool bytes list tuple dict set isinstance ord
     repr any all divmod Exception ValueError TypeError KeyError IndexError LookupError ZeroDivisionError ArithmeticError
-    OverflowError RuntimeError NotImplementedError AttributeError NotImplemented""".split()
+    OverflowError RuntimeError NotImplementedError AttributeError NotImplemented property""".split()
 METHODS = """append clear copy count endswith extend find get index insert isalnum isalpha isdigit islower isspace isupper
     items join keys ljust lower lstrip partition pop remove replace reverse rfind rjust rpartition rsplit rstrip
     setdefault split splitlines startswith strip update upper values zfill bit_length isascii""".split()
