@@ -54,6 +54,17 @@ NOTHING_KNOWN = [
 ]
 
 
+# Every operator between two values but == and !=; "%" is asked of the left one alone, since texts have it for themselves.
+OPERATORS = (
+    lambda a, b: a | b, lambda a, b: a + b, lambda a, b: a - b, lambda a, b: a * b, lambda a, b: a // b, lambda a, b: a / b,
+    lambda a, b: a & b, lambda a, b: a ^ b, lambda a, b: a ** b, lambda a, b: a << b, lambda a, b: a >> b, lambda a, b: a @ b,
+    lambda a, b: a < b, lambda a, b: a <= b, lambda a, b: a > b, lambda a, b: a >= b,
+)
+# What iterates over a value.
+ITERATING = (iter, list, tuple, sorted, set, sum, max, any, all, enumerate, lambda a: [*a], lambda a: [k for k in a],
+             lambda a: list(zip(a, a)))
+
+
 class Refusals(unittest.TestCase):
     def refused(self, error, field, value, function, *rest, **more):
         """The call raises just this error, whose field has this value."""

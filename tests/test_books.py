@@ -4,7 +4,8 @@ import unittest
 from itertools import combinations
 
 from claim_words import is_claim, some_claims, truth
-from plain import A, AB, ABC, ABCDE, NOTHING_KNOWN, THINGS, WORDS, Echo, Refusals, Strange, otherwise, some_families
+from plain import (A, AB, ABC, ABCDE, ITERATING, NOTHING_KNOWN, OPERATORS, THINGS, WORDS, Echo, Refusals, Strange, otherwise,
+                   some_families)
 
 from standlots.books import MOST_FACTS, Book
 from standlots.claims import adds_nothing, can_stand
@@ -134,11 +135,7 @@ class OperatorsTest(unittest.TestCase):
     def test_operators(self):
         for value in [None, True, 0, 2, "", "ab", b"a", (), (ONE,), [], [ONE], {}, set(), len, Book, Strange(), BOOK,
                       Family(AB, (0, 1, 1, 1))]:
-            for operator in (
-                lambda a, b: a | b, lambda a, b: a + b, lambda a, b: a - b, lambda a, b: a * b, lambda a, b: a // b,
-                lambda a, b: a & b, lambda a, b: a ^ b, lambda a, b: a ** b, lambda a, b: a << b, lambda a, b: a >> b,
-                lambda a, b: a < b, lambda a, b: a <= b, lambda a, b: a > b, lambda a, b: a >= b, lambda a, b: a / b,
-            ):
+            for operator in OPERATORS:
                 with self.assertRaises(TypeError):
                     operator(BOOK, value)
                 with self.assertRaises(TypeError):
@@ -148,8 +145,7 @@ class OperatorsTest(unittest.TestCase):
 
     def test_iterating(self):
         for book in (BOOK, Book(AB)):
-            for function in (iter, list, tuple, sorted, set, sum, max, any, all, enumerate, lambda a: [*a],
-                             lambda a: [k for k in a], lambda a: list(zip(a, a))):
+            for function in ITERATING:
                 with self.assertRaises(TypeError):
                     function(book)
             with self.assertRaises(TypeError):

@@ -3,8 +3,8 @@
 import unittest
 from itertools import product
 
-from plain import (A, AB, ABC, ABCDE, NOTHING_KNOWN, THINGS, WORDS, Refusals, Strange, broken_rule, counts_of, family_sets,
-                   minus, nested, parts_of, some_families, standing, union)
+from plain import (A, AB, ABC, ABCDE, ITERATING, NOTHING_KNOWN, OPERATORS, THINGS, WORDS, Refusals, Strange, broken_rule,
+                   counts_of, family_sets, minus, nested, parts_of, some_families, standing, union)
 
 from standlots.errors import BadCounts, BadLot, BadNumber, BadThings
 from standlots.families import Family, all_families, family_of
@@ -200,11 +200,7 @@ class OperatorsTest(unittest.TestCase):
 
     def test_operators_with_values_that_are_not_described(self):
         for value in self.OTHERS:
-            for operator in (
-                lambda a, b: a | b, lambda a, b: a + b, lambda a, b: a - b, lambda a, b: a * b, lambda a, b: a // b,
-                lambda a, b: a & b, lambda a, b: a ^ b, lambda a, b: a ** b, lambda a, b: a << b, lambda a, b: a < b,
-                lambda a, b: a <= b, lambda a, b: a > b, lambda a, b: a >= b,
-            ):
+            for operator in OPERATORS:
                 with self.assertRaises(TypeError):
                     operator(PAIR, value)
                 with self.assertRaises(TypeError):
@@ -217,8 +213,7 @@ class OperatorsTest(unittest.TestCase):
                 operator(PAIR, PAIR)
 
     def test_iterating(self):
-        for function in (iter, list, tuple, sorted, set, sum, max, any, enumerate, lambda a: [*a],
-                         lambda a: [k for k in a]):
+        for function in ITERATING:
             with self.assertRaises(TypeError):
                 function(PAIR)
         with self.assertRaises(TypeError):

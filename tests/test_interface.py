@@ -6,7 +6,7 @@ import unittest
 from copy import deepcopy
 
 from drawn import drawn_books
-from plain import A, AB, ABC, ABCD, Strange
+from plain import A, AB, ABC, ABCD, OPERATORS, Strange
 
 from standlots import best, bits, claims, facts, families, lots, makers, pairs, questions, texts, trees, verdicts, yard
 from standlots.books import Book
@@ -208,8 +208,7 @@ class OperatorsTest(unittest.TestCase):
             for other in self.VALUES + (None, 0, "a", (), [], {}, ABC, Strange()):
                 if isinstance(one, Family) and isinstance(other, Family):
                     continue
-                for operator in (lambda a, b: a | b, lambda a, b: a + b, lambda a, b: a - b, lambda a, b: a & b, lambda a, b: a * b,
-                                 lambda a, b: a < b, lambda a, b: a >= b, lambda a, b: a @ b, lambda a, b: a ^ b):
+                for operator in OPERATORS:
                     for left, right in ((one, other), (other, one)):
                         with self.assertRaises(TypeError):
                             operator(left, right)

@@ -85,6 +85,15 @@ def some_claims_on(rng, book):
     return found + [("all", tuple(can_stand(book.things, lot) for lot in lots))]
 
 
+def with_one_more(value, lots):
+    """The plan with one more question at any place of it."""
+    found = [(lot,) + parts for lot in lots for parts in ((value, ()), ((), value), (value, value))]
+    if value:
+        found += [(value[0], first, value[2]) for first in with_one_more(value[1], lots)]
+        found += [(value[0], value[1], second) for second in with_one_more(value[2], lots)]
+    return found
+
+
 class NextQuestionTest(Refusals):
     def expected(self, book):
         left = keeping(book)
@@ -206,6 +215,32 @@ class IsPlanTest(Refusals):
                         for longer in ((A, value, value), ((), value, value), ((), (), value), (things, value, ())):
                             self.assertIs(is_plan(book, claim, longer), words.is_plan(longer))
         self.assertEqual(set(answers), {True, False})
+
+    def test_one_more_question_at_any_place(self):
+        rng = Random(95)
+        unlike = 0
+        for things in (AB, ABC):
+            for book in books_of_few(things, 10, 96):
+                for claim in some_claims_on(rng, book):
+                    words = Words(book, claim)
+                    value = plan(book, claim)
+                    for longer in with_one_more(value, parts_of(things)):
+                        self.assertIs(is_plan(book, claim, longer), words.is_plan(longer))
+                        # Some of them ask no more at worst.
+                        unlike += str(longer).count("()") < 2 ** words.fewest(words.every)
+        self.assertTrue(unlike > 100)
+
+    def test_a_question_that_tells_nothing(self):
+        # Behind a there are two questions at worst if it can stand, and one if it cannot: there is time for one more.
+        a, b, c = [can_stand(ABC, (thing,)) for thing in ABC]
+        claim = ("some", (("all", (a, b, c)), ("all", (("not", a), b))))
+        first, second = (B, (("c",), (), ()), ()), (B, (), ())
+        self.assertEqual(fewest(Book(ABC), claim), 3)
+        self.assertIs(is_plan(Book(ABC), claim, (A, first, second)), True)
+        self.assertIs(is_plan(Book(ABC), claim, (A, first, (("c",), second, second))), True)
+        for lot in ((), A, AB, ("a", "c"), ABC):
+            for parts in ((second, ()), ((), second), (second, second)):
+                self.assertIs(is_plan(Book(ABC), claim, (A, first, (lot,) + parts)), False)
 
     def test_with_a_lot_exchanged(self):
         rng = Random(90)

@@ -5,7 +5,8 @@ from random import Random
 
 from claim_words import chain, opposite, some_claims, truth
 from drawn import draw_claim, drawn_books
-from plain import A, AB, ABC, ABCD, ABCDE, NOTHING_KNOWN, THINGS, Echo, Refusals, Strange, parts_of, standing
+from plain import (A, AB, ABC, ABCD, ABCDE, ITERATING, NOTHING_KNOWN, OPERATORS, THINGS, Echo, Refusals, Strange, parts_of,
+                   standing)
 from tree_words import keeping
 
 from standlots.books import Book
@@ -245,8 +246,12 @@ class EqualTest(unittest.TestCase):
         self.assertIs(one == other, True)
         self.assertIs(one != other, False)
         self.assertEqual((len(one), len(other)), (1, 0))
+        other.learn(can_stand(AB, B))
+        one.learn(can_stand(AB, B))
+        self.assertIs(one == other, True)
         one.undo()
         self.assertIs(one == other, False)
+        self.assertIs(other == one, False)
         self.assertIs(Yard(Book(AB)) == Yard(Book(ABC)), False)
         self.assertIs(Yard(Book(AB)) == Yard(Book(AB)), True)
 
@@ -264,11 +269,7 @@ class OperatorsTest(unittest.TestCase):
         yard = Yard(Book(AB))
         for value in [None, True, 0, 2, "", "ab", b"a", (), (TRUE,), [], [1], {}, set(), len, Yard, Strange(), yard, Book(AB),
                       Family(AB, (0, 1, 1, 1))]:
-            for operator in (
-                lambda a, b: a | b, lambda a, b: a + b, lambda a, b: a - b, lambda a, b: a * b, lambda a, b: a // b,
-                lambda a, b: a & b, lambda a, b: a ^ b, lambda a, b: a ** b, lambda a, b: a << b, lambda a, b: a >> b,
-                lambda a, b: a < b, lambda a, b: a <= b, lambda a, b: a > b, lambda a, b: a >= b, lambda a, b: a / b,
-            ):
+            for operator in OPERATORS:
                 with self.assertRaises(TypeError):
                     operator(yard, value)
                 with self.assertRaises(TypeError):
@@ -280,8 +281,7 @@ class OperatorsTest(unittest.TestCase):
     def test_iterating(self):
         yard = Yard(Book(AB))
         yard.learn(TRUE)
-        for function in (iter, list, tuple, sorted, set, sum, max, any, all, enumerate, reversed, lambda a: [*a],
-                         lambda a: [k for k in a], lambda a: list(zip(a, a))):
+        for function in ITERATING + (reversed,):
             with self.assertRaises(TypeError):
                 function(yard)
         with self.assertRaises(TypeError):
